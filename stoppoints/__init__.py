@@ -1,0 +1,1 @@
+"""Stoppoints: how long code runs between two looks."""
