@@ -344,7 +344,6 @@ def has_look(code, name):
 
 def joined(one, other):
     """The row of two codes, whose parts are taken if they are rows themselves."""
-    check_codes([other])
     ahead = one.parts() if isinstance(one, Row) else [one]
     behind = other.parts() if isinstance(other, Row) else [other]
     codes = ahead + behind
@@ -353,7 +352,6 @@ def joined(one, other):
 
 def parted(one, other):
     """The choice between two codes, whose parts are taken if they are choices themselves."""
-    check_codes([other])
     first = one.parts() if isinstance(one, Either) else [one]
     second = other.parts() if isinstance(other, Either) else [other]
     codes = first + second
