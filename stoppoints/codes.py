@@ -336,6 +336,11 @@ def pieces_of(code):
         yield from pieces_of(part)
 
 
+def loops_of(code):
+    """The loops in the code, as they begin in its text."""
+    return [piece for piece in pieces_of(code) if isinstance(piece, Loop)]
+
+
 def has_look(code, name):
     """Whether a look of this name is in the code."""
     looks = [piece.name for piece in pieces_of(code) if isinstance(piece, Look)]

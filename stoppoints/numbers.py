@@ -1,12 +1,16 @@
 """The numbers of a code: how long its walks can go without a look."""
 
 from stoppoints.checks import check_turns
-from stoppoints.codes import Call, Either, Leave, Look, Loop, Row, Stand, Work, pieces_of
+from stoppoints.codes import Call, pieces_of
 from stoppoints.errors import InvalidNumber, UnknownName
+from stoppoints.measures import ENDLESS, in_call, in_either, in_row, in_turns, measured
+from stoppoints.programs import calls_of
 from stoppoints.spans import Span, greatest
 
 WAYS = ("on", "leave", "return")
 NO_WAY = (None, None, None)
+# The goals of measures that are numbers, in the order of all_eight.
+EIGHT = ("on", "leave", "return", "tail on", "tail leave", "tail return", "head", "inner")
 
 
 class Numbers:
@@ -84,26 +88,21 @@ class Numbers:
     def __add__(self, other):
         if not isinstance(other, Numbers):
             return NotImplemented
-        return in_row(self, other)
+        return numbers_from(in_row(measures_of(self), measures_of(other)))
 
     def __or__(self, other):
         if not isinstance(other, Numbers):
             return NotImplemented
-        best = [greatest([mine, theirs]) for mine, theirs in zip(all_eight(self), all_eight(other))]
-        return of_eight(best)
+        return numbers_from(in_either([measures_of(self), measures_of(other)]))
 
     def turned(self, low, high):
         """The numbers of a loop of a code with these."""
         check_turns(low, high)
-        if high == 0:
-            return Numbers.of_nothing()
-        return in_turns(self, low, high)
+        return numbers_from(in_turns(measures_of(self), low, high))
 
     def called(self):
         """The numbers of a call of a function whose code has these."""
-        through = (greatest([self._through[0], self._through[2]]), None, None)
-        tail = (greatest([self._tail[0], self._tail[2]]), None, None)
-        return Numbers(through=through, tail=tail, head=self._head, inner=self._inner)
+        return numbers_from(in_call(measures_of(self)))
 
     def __le__(self, other):
         if not isinstance(other, Numbers):
@@ -146,100 +145,42 @@ def of_eight(spans):
     return Numbers(through=tuple(spans[:3]), tail=tuple(spans[3:6]), head=spans[6], inner=spans[7])
 
 
-def added(one, other):
-    """The sum of two spans, None if there is not both."""
-    if one is None or other is None:
+def measures_of(numbers):
+    """The measures with these numbers."""
+    times = [time_of(span) for span in all_eight(numbers)]
+    found = {goal: time for goal, time in zip(EIGHT, times)}
+    found["pass"] = None if found["on"] is None and found["tail on"] is None else 0
+    return found
+
+
+def numbers_from(measures):
+    """The numbers that these measures tell."""
+    return of_eight([span_from(measures[goal]) for goal in EIGHT])
+
+
+def time_of(span):
+    """The time of a span or None, as measures have it."""
+    if span is None:
         return None
-    return one + other
+    return ENDLESS if span.is_endless() else span.time
 
 
-def in_row(one, other):
-    """The numbers of a row of two codes."""
-    on = one.through("on")
-    tail_on = one.tail("on")
-    if on is None and tail_on is None:
-        # No walk comes to the other one.
-        return one
-    through = [added(on, other.through("on"))]
-    tail = [greatest([added(tail_on, other.through("on")), other.tail("on")])]
-    for way in WAYS[1:]:
-        through.append(greatest([one.through(way), added(on, other.through(way))]))
-        tail.append(greatest([one.tail(way), added(tail_on, other.through(way)), other.tail(way)]))
-    head = greatest([one.head, added(on, other.head)])
-    inner = greatest([one.inner, added(tail_on, other.head), other.inner])
-    return Numbers(through=tuple(through), tail=tuple(tail), head=head, inner=inner)
-
-
-def in_turns(code, low, high):
-    """The numbers of a loop with at least one turn at most, of a code with these numbers."""
-    on = code.through("on")
-    before = turns_on(on, high, 1)
-    behind = between_turns(code, high)
-    all_turns = turns_on(on, high, 0) if on is not None or low == 0 else None
-    through_on = greatest([all_turns, added(before, code.through("leave"))])
-    through_return = added(before, code.through("return"))
-    tail_on = greatest([
-        added(code.tail("on"), before),
-        added(behind, code.through("leave")),
-        code.tail("leave"),
-    ])
-    tail_return = greatest([added(behind, code.through("return")), code.tail("return")])
-    return Numbers(
-        through=(through_on, None, through_return),
-        tail=(tail_on, None, tail_return),
-        head=added(before, code.head),
-        inner=greatest([code.inner, added(behind, code.head)]),
-    )
-
-
-def turns_on(on, high, less):
-    """The greatest time of turns that go on without a look, all that are possible but for so many.
-
-    If none can go on so, this is the time of no turns.
-    """
-    if on is None:
-        return Span(0)
-    if high is not None:
-        return on * (high - less)
-    return on if on == Span(0) else Span.endless()
-
-
-def between_turns(code, high):
-    """The greatest time from the last look in one turn to the beginning of a later one, or None."""
-    if high == 1 or code.tail("on") is None:
+def span_from(time):
+    """The span or None that a time of measures stands for."""
+    if time is None:
         return None
-    return code.tail("on") + turns_on(code.through("on"), high, 2)
+    return Span.endless() if time == ENDLESS else Span(time)
 
 
 def numbers_by(code, told):
     """The numbers of a code in which the calls have the numbers that are told by names."""
+    check_calls(code, told)
+    by_names = {name: measures_of(told[name]) for name in calls_of(code)}
+    return numbers_from(measured(code, by_names))
+
+
+def check_calls(code, known):
+    """Refuses the first call of a name that is not known."""
     for piece in pieces_of(code):
-        if isinstance(piece, Call) and piece.name not in told:
+        if isinstance(piece, Call) and piece.name not in known:
             raise UnknownName(piece.name)
-    return numbers_within(code, told)
-
-
-def numbers_within(code, told):
-    """The numbers of a code whose calls are all told."""
-    if isinstance(code, Work):
-        return Numbers.of_work(code.time)
-    if isinstance(code, Look):
-        return Numbers.of_look(code.cost)
-    if isinstance(code, Stand):
-        return Numbers.of_stand()
-    if isinstance(code, Loop):
-        return numbers_within(code.code, told).turned(code.low, code.high)
-    if isinstance(code, Call):
-        return told[code.name]
-    if isinstance(code, (Row, Either)):
-        return numbers_of_parts(code, told)
-    return Numbers.of_leave() if isinstance(code, Leave) else Numbers.of_return()
-
-
-def numbers_of_parts(code, told):
-    """The numbers of a row or a choice, from those of its parts."""
-    each = [numbers_within(part, told) for part in code.parts()]
-    numbers = each[0] if each else Numbers.of_nothing()
-    for more in each[1:]:
-        numbers = numbers + more if isinstance(code, Row) else numbers | more
-    return numbers

@@ -86,20 +86,24 @@ def calls_of(code):
     return sorted(set(names))
 
 
+def call_table(program):
+    """A dict of the names that each function calls."""
+    return {name: calls_of(program[name]) for name in program.names()}
+
+
 def reached(program):
     """The names that the first function can come to by calls, and its own, in order."""
-    names = called_from(program, program.first)
+    names = called_from(call_table(program), program.first)
     names[program.first] = True
     return sorted(names, key=str)
 
 
-def called_from(program, name):
-    """A dict of the names of all functions that calls lead to from this one."""
+def called_from(table, name):
+    """A dict of the names of all functions that calls lead to from this one, by the table of all calls."""
     found = {}
     todo = [name]
     while todo:
-        code = program[todo.pop()]
-        for called in calls_of(code):
+        for called in table[todo.pop()]:
             if called not in found:
                 found[called] = True
                 todo.append(called)
@@ -108,11 +112,11 @@ def called_from(program, name):
 
 def rings(program):
     """The lists of the names that call one another in a ring, by their first names."""
-    names = program.names()
-    ahead = {name: called_from(program, name) for name in names}
+    table = call_table(program)
+    ahead = {name: called_from(table, name) for name in table}
     found = []
-    for name in names:
-        ring = [other for other in names if other in ahead[name] and name in ahead[other]]
+    for name in program.names():
+        ring = [other for other in program.names() if other in ahead[name] and name in ahead[other]]
         # A ring is found from each of its names: it is taken from the first one.
         if ring and ring[0] == name:
             found.append(ring)

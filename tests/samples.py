@@ -3,7 +3,9 @@
 import random
 
 from stoppoints.codes import Call, Either, Leave, Look, Loop, Return, Row, Stand, Work
+from stoppoints.errors import LimitExceeded
 from stoppoints.numbers import Numbers
+from stoppoints.programs import Program
 from stoppoints.spans import Span, greatest
 
 WAYS = ("on", "leave", "return")
@@ -162,6 +164,38 @@ def random_program(rng):
     names = rng.sample(["a", "b", "f", "go", "stop", "z"], rng.choice([1, 2, 3]))
     functions = {name: random_code(rng, rng.choice([2, 3, 4]), names=names) for name in names}
     return rng.choice(names), functions
+
+
+def random_rings(rng):
+    """A program in which many functions call one another, most of them with a way that ends."""
+    names = ["a", "b", "c", "d", "e", "f"][:rng.choice([1, 2, 2, 3, 4, 6])]
+    functions = {}
+    for name in names:
+        ways = [random_code(rng, 3, names=names) for _ in range(rng.choice([1, 2]))]
+        if rng.random() < 0.8:
+            ways.append(Row())
+        pieces = [random_code(rng, 2, names=names), Call(rng.choice(names)), random_code(rng, 2, names=names)]
+        functions[name] = Either(*ways, Row(*rng.sample(pieces, rng.choice([2, 3]))))
+    return Program(rng.choice(names), functions)
+
+
+def walk_by_chance(rng, program, many):
+    """A walk with at most so many choices, None if it becomes too long."""
+    choices = []
+    try:
+        walk = program(choices)
+        while not walk.done and len(choices) < many:
+            low, high = (0, walk.waits[1] - 1) if walk.waits[0] == "either" else walk.waits[1:]
+            choices.append(rng.randint(low, low + 3 if high is None else high))
+            walk = program(choices)
+    except LimitExceeded:
+        return None
+    return walk
+
+
+def walks_of_function(code, told):
+    """The walks of a call of a function with this code."""
+    return {("on" if way == "return" else way, stretches) for way, stretches in walks_of(code, told)}
 
 
 class LeaveLoop(Exception):
