@@ -28,8 +28,8 @@ def over(program, time):
 def trail_with(program, time):
     """A trail with a stretch of this time at least, which some walk of the program has."""
     search = Search(program, time)
-    search.find()
-    return Trail(program, search.entries())
+    search.go_on()
+    return Trail(program, search.found_entries())
 
 
 class Search:
@@ -48,7 +48,7 @@ class Search:
         # For each find its function, and what was told and which keys there were ahead of it.
         self._finds = []
 
-    def find(self):
+    def go_on(self):
         """Goes on until the first function has a stretch of the time."""
         names = called_first(call_table(self._program), [self._program.first])
         while self._goal() is None:
@@ -79,7 +79,7 @@ class Search:
             return None
         return self._time if time == ENDLESS or time > self._time else time
 
-    def entries(self):
+    def found_entries(self):
         """The entries of the trail that was found."""
         first = self._program.first
         key = self._keys[first][self._goal()]

@@ -5,14 +5,14 @@ the "here" is left out that ends a row or a loop of which more could be gone thr
 """
 
 from stoppoints.codes import Call, Either, Leave, Loop, Return, Row
-from stoppoints.measures import (IN_ROW, IN_TURNS, beginnings, best, measured, row_times, turn_counts,
-                                 turn_times)
+from stoppoints.measures import IN_ROW, IN_TURNS, beginnings, best, measured, row_times, turn_counts, turn_times
 
 
 class Planner:
-    """Plans walks, when measures of calls are told, and keys of walks that reach them (None for one that ends there).
+    """Plans walks, when the measures of calls are told, and the keys of walks that reach them, by names and goals.
 
-    Where measures are endless, a plan takes as many turns as are needed for a time that is enough.
+    Where measures are endless, a plan takes as many turns as are needed for a time that is enough. A head of 0, which
+    needs no walk, is never asked for in the midst of a plan: there is always another way with the same time.
     """
 
     def __init__(self, told, keys, enough):
@@ -31,8 +31,7 @@ class Planner:
         if isinstance(code, Loop):
             return "loop", self._turns(code, goal)
         if isinstance(code, Call):
-            key = self._keys[code.name][goal]
-            return "here" if key is None else ("call", key)
+            return "call", self._keys[code.name][goal]
         return "go"
 
     def _trees(self, row, goal):
@@ -89,8 +88,8 @@ def calls_in(plan):
 
 def finished(code, plan, done):
     """The tree of a plan, and its way out of the code; `done` has the index and the way of the walks by keys."""
-    if isinstance(plan, str):
-        return plan, way_of(code, plan)
+    if plan == "go":
+        return plan, way_of(code)
     if isinstance(code, Row):
         return finished_row(code, plan, done)
     if isinstance(code, Either):
@@ -102,10 +101,8 @@ def finished(code, plan, done):
     return ("call", index), "here" if way == "here" else "on"
 
 
-def way_of(code, word):
-    """The way out of a code by one of the words."""
-    if word == "here":
-        return "here"
+def way_of(code):
+    """The way out of a code without parts."""
     if isinstance(code, Leave):
         return "leave"
     return "return" if isinstance(code, Return) else "on"

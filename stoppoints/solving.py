@@ -5,10 +5,12 @@ from stoppoints.measures import ENDLESS, best, in_call, measured, of_begin
 from stoppoints.numbers import check_calls, numbers_from, span_from
 from stoppoints.programs import call_table, called_from, calls_of, reached
 
-# A walk comes to one of its numbers through calls within calls, on which an inner stretch is looked for first, then
-# a tail or a head, then a way on with Looks or without. If it comes to the same function twice for the same of
-# these four, what it does between both can be left out or done again: if this takes time, there is no end.
-STAGES = 4
+# A walk comes to the time of a goal through calls within calls, in stages. For "on", all of them are taken on; for
+# "head", some are taken for their heads, and then some on; for "tail on", some for their tails, and then some on,
+# with Looks or without. If a walk comes to the same function twice in one stage, what it does between both can be
+# left out, or done again and again: if it takes time, there is no end. So as many calls within another as a ring has
+# functions tell all times of one stage that have an end. An inner stretch is a tail and a head, or a Look's cost.
+STAGES = {"on": 1, "head": 2, "tail on": 2}
 
 
 def numbers_of(program, code):
@@ -53,28 +55,25 @@ def solved(program, names):
 
 
 def solve_ring(program, ring, told):
-    """Adds the measures of calls of functions in a ring, when those that they call beside them are told.
-
-    Each sweep allows one more call within another. What still grows when each function can have been
-    called in each of the stages has no bound.
-    """
+    """Adds the measures of calls of functions in a ring, when those that they call beside them are told."""
     for name in ring:
         told[name] = of_begin()
     sweeps = 0
     grown = True
     while grown:
-        sweeps += 1
         grown = False
+        # Each sweep allows at least one more call within another.
+        ended = [goal for goal in STAGES if sweeps >= STAGES[goal] * len(ring)]
         for name in ring:
-            found = in_call(measured(program[name], told))
-            if found != told[name]:
-                grown = True
-                told[name] = found if sweeps <= STAGES * len(ring) else without_bound(told[name], found)
+            found = without_end(told[name], in_call(measured(program[name], told)), ended)
+            grown = grown or found != told[name]
+            told[name] = found
+        sweeps += 1
 
 
-def without_bound(known, found):
-    """The measures that were found, endless where they are above those known."""
-    return {goal: time if time == known[goal] else ENDLESS for goal, time in found.items()}
+def without_end(known, found, ended):
+    """The measures that were found, ENDLESS for goals that have grown though all their times that end are known."""
+    return {goal: ENDLESS if goal in ended and time != known[goal] else time for goal, time in found.items()}
 
 
 def groups_of(table, names):

@@ -109,7 +109,7 @@ def read_row(row, tree, done):
     if not is_tree(tree, "row", 2) or not isinstance(tree[1], tuple):
         return None
     trees = tree[1]
-    if len(trees) > len(parts) or (parts and not trees):
+    if len(trees) > len(parts):
         return None
     way, did = "on", NOTHING
     for part, within in zip(parts, trees):

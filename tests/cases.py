@@ -12,6 +12,16 @@ STRANGER = STRANGE[1:]
 TOP = 10 ** 30
 
 
+class Same:
+    """A value that says of itself that it is equal to everything."""
+
+    def __eq__(self, other):
+        return True
+
+    def __hash__(self):
+        return 0
+
+
 class Case(unittest.TestCase):
     def refuses(self, error, told, call, *args, **named):
         """That the call raises just this error, and that its attributes are as told."""

@@ -181,6 +181,12 @@ def random_rings(rng):
 
 def walk_by_chance(rng, program, many):
     """A walk with at most so many choices, None if it becomes too long."""
+    choices = choices_by_chance(rng, program, many)
+    return None if choices is None else program(choices)
+
+
+def choices_by_chance(rng, program, many):
+    """The choices of such a walk, or None."""
     choices = []
     try:
         walk = program(choices)
@@ -190,7 +196,7 @@ def walk_by_chance(rng, program, many):
             walk = program(choices)
     except LimitExceeded:
         return None
-    return walk
+    return choices
 
 
 def walks_of_function(code, told):

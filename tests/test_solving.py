@@ -175,6 +175,21 @@ class RingsTest(Case):
             functions[NAMES[many - 1]] = "{[60; !; 70] | call a}"
             self.assertEqual(called("a", **functions), [0, None, None, 70, None, None, 60, 70])
 
+    def test_times_that_need_many_calls_one_within_another(self):
+        self.assertEqual(called("f", f="{1 | [call f; ?b:2]}"), [1, None, None, 0, None, None, 3, 2])
+        # Calls that are written, but never made, lead one way around the ring, and those that are made the other way.
+        for many in (2, 3, 8, 12):
+            last = NAMES[many - 1]
+            functions = {NAMES[k]: f"[0..0 call {NAMES[(k + 1) % many]}; call {NAMES[k - 1]}]" for k in range(1, many)}
+            functions["a"] = f"[0..0 call b; {{5 | [call {last}; 7; ?x:1]}}]"
+            self.assertEqual(called(last, **functions), [5, None, None, 0, None, None, 13, 8])
+            functions["a"] = f"[0..0 call b; {{5 | [?x; 7; call {last}]}}]"
+            self.assertEqual(called(last, **functions), [5, None, None, 12, None, None, 5, 12])
+            functions["a"] = f"[0..0 call b; {{[?x; 5] | [call {last}; ?x; 7; call {last}; ?x; return; 9]}}]"
+            self.assertEqual(called(last, **functions), [None, None, None, 5, None, None, 0, 7])
+            functions["a"] = f"[0..0 call b; {{5 | [?x; 7; call {last}; 1]}}]"
+            self.assertEqual(called(last, **functions), [5, None, None, "endless", None, None, 5, "endless"])
+
     def test_a_chain_of_rings(self):
         functions = {name: f"{{[] | [?a; call {name}; call {NAMES[k + 1]}]}}" for k, name in enumerate(NAMES[:11])}
         self.assertEqual(span("a", l="{3 | [?a; call l]}", **functions), "endless")

@@ -8,7 +8,7 @@ from stoppoints.programs import Program
 from stoppoints.texts import parse_code
 from stoppoints.trails import Trail
 
-from cases import STRANGE, TOP, Case
+from cases import STRANGE, TOP, Case, Same
 from paths import Bad, path_of, random_entries
 from samples import generator, random_program, random_rings
 
@@ -246,14 +246,14 @@ class AnyValueTest(Case):
         deep = "here"
         for _ in range(28):
             deep = ("row", (deep,))
-        for value in STRANGE + [5, [("f", "go")], {("f", "go"): 1}, "here", Work(1), program, [deep]]:
+        for value in STRANGE + [5, Same(), [("f", "go")], {("f", "go"): 1}, "here", Work(1), program, [deep]]:
             if not isinstance(value, tuple) or value == ():
                 self.refuses(InvalidTrail, {"index": None}, Trail, program, value)
 
     def test_no_entries(self):
         program = program_of(f="1")
         for value in STRANGE + [5, ["f", "go"], ("f",), ("f", "go", 1), ("g", "go"), (None, "go"), ("", "go"),
-                                (["f"], "go"), (("f",), "go"), "fg", {"f": "go"}, Work(1), ("go", "f")]:
+                                (["f"], "go"), (("f",), "go"), "fg", {"f": "go"}, Work(1), ("go", "f"), Same(), (Same(), "go")]:
             self.refuses(InvalidTrail, {"index": 0}, Trail, program, (value,))
             self.refuses(InvalidTrail, {"index": 1}, Trail, program, (("f", "go"), value, ("f", "go")))
 
@@ -261,7 +261,7 @@ class AnyValueTest(Case):
         deep = []
         for _ in range(28):
             deep = [deep]
-        wrong = STRANGE + [5, "Go", "go ", "heres", ("go",), ("here",), ["go"], b"go", Work(1), deep, (deep,)]
+        wrong = STRANGE + [5, "Go", "go ", "heres", ("go",), ("here",), ["go"], b"go", Work(1), deep, (deep,), Same()]
         for text in ["5", "?a", "!", "[1]", "{1 | 2}", "0..* 1", "call f", "return", "[]"]:
             for value in wrong:
                 self.refuses(InvalidTrail, {"index": 0}, one, text, value)
