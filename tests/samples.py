@@ -321,3 +321,49 @@ def random_choices(rng, program, many):
 
 def generator(seed):
     return random.Random(seed)
+
+
+def with_highs(code):
+    """The code with a high in each loop."""
+    if isinstance(code, Loop):
+        return Loop(code.low, code.low + 2 if code.high is None else code.high, with_highs(code.code))
+    if isinstance(code, (Row, Either)):
+        return type(code)(*[with_highs(part) for part in code.parts()])
+    return code
+
+
+def random_tree_of_calls(rng):
+    """A program without rings in which each loop has a high: functions call only those behind them."""
+    names = ["a", "b", "f", "go"][:rng.choice([1, 2, 3, 3, 4])]
+    rng.shuffle(names)
+    functions = {}
+    for k, name in enumerate(names):
+        later = names[k + 1:]
+        code = random_code(rng, rng.choice([2, 3, 4]), names=later)
+        if later and rng.random() < 0.6:
+            code = Row(*rng.sample([code, Call(rng.choice(later))], 2))
+        functions[name] = with_highs(code)
+    return Program(names[0] if rng.random() < 0.8 else rng.choice(names), functions)
+
+
+def finished_walks(program, turns=0, most=3000):
+    """All walks that come to the end, with at most so many turns of loops without a high (or low, if that is more)."""
+    found, todo = [], [[]]
+    while todo:
+        choices = todo.pop()
+        walk = program(choices)
+        if walk.done:
+            found.append(walk)
+        elif walk.waits[0] == "either":
+            todo += [choices + [k] for k in range(walk.waits[1])]
+        else:
+            low, high = walk.waits[1:]
+            todo += [choices + [k] for k in range(low, (max(low, turns) if high is None else high) + 1)]
+        if len(found) + len(todo) > most:
+            raise TooMany()
+    return found
+
+
+def plain_steps(walk):
+    """The steps of a walk but for those of calls and turns."""
+    return tuple(step for step in walk.steps() if step[0] not in ("call", "turn"))
