@@ -1,8 +1,10 @@
-"""What counts as an integer, a name, a time and a number of turns."""
+"""What counts as an integer, a name, a time and a number of turns, and what has a name."""
 
-from stoppoints.errors import InvalidName, InvalidTurns
+from stoppoints.errors import InvalidName, InvalidTurns, UnknownName
 
 GREATEST_TIME = 10 ** 30
+# The times of limits, and the numbers that are written in the same way, are less than this.
+ABOVE_LIMITS = 10 ** 60
 LONGEST_NAME = 8
 LETTERS = "abcdefghijklmnopqrstuvwxyz"
 
@@ -33,6 +35,12 @@ def check_name(name):
     """Refuses what is no name."""
     if not is_name(name):
         raise InvalidName(name)
+
+
+def check_known(name, known):
+    """Refuses what is no name of these."""
+    if name not in known:
+        raise UnknownName(name)
 
 
 def check_turns(low, high):

@@ -5,7 +5,7 @@ from stoppoints.codes import loops_of
 from stoppoints.errors import InvalidRule
 from stoppoints.places import placed
 from stoppoints.programs import rings
-from stoppoints.texts import DIGITS
+from stoppoints.words import is_number
 
 # The words of the entry and of the finish, and those of the back, from less to more.
 WORDS = ("none", "rings", "all")
@@ -138,18 +138,16 @@ def parse_rule(text):
     if len(words) != 3:
         raise InvalidRule(text)
     try:
-        rule = Rule(words[0], words[1], read_back(words[2]))
+        return rule_of(words)
     except InvalidRule:
         raise InvalidRule(text) from None
-    if show_rule(rule) != text:
-        raise InvalidRule(text)
-    return rule
 
 
-def read_back(word):
-    """The part that a word stands for, the word itself if it is no number."""
-    is_number = 1 <= len(word) <= MOST_DIGITS and all([sign in DIGITS for sign in word])
-    return int(word) if is_number else word
+def rule_of(words):
+    """The rule of three words; the error tells the first one that is wrong."""
+    # A word that is no number is left for the rule to refuse.
+    back = int(words[2]) if is_number(words[2], MOST_DIGITS) else words[2]
+    return Rule(words[0], words[1], back)
 
 
 def ruled(program, rule):
