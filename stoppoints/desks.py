@@ -62,7 +62,7 @@ class Desk:
     def span_for(self, name):
         """The span of a program under the rule."""
         check_known(name, self)
-        return self._history.state.needed(name)
+        return self._history.state.span_under_rule(name)
 
     def sheet(self, name):
         """A view of one name."""
@@ -149,7 +149,7 @@ class State:
         """The same with another rule."""
         return State(self.programs, self.limits, rule)
 
-    def needed(self, name):
+    def span_under_rule(self, name):
         """The span of a program under the rule."""
         return span_of(ruled(self.programs[name], self.common))
 
@@ -157,7 +157,7 @@ class State:
         """Refuses a span above the limit of its name."""
         limit = self.limits[name]
         if limit is not None:
-            needed = self.needed(name)
+            needed = self.span_under_rule(name)
             if needed > limit:
                 raise OverLimit(name, needed)
 

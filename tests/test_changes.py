@@ -5,6 +5,7 @@ import unittest
 from stoppoints.changes import inlined, split, unrolled
 from stoppoints.codes import Call, Either, Leave, Look, Loop, Return, Row, Work, loops_of, pieces_of
 from stoppoints.errors import CannotInline, InvalidCode, InvalidLoop, InvalidTurns, UnknownName
+from stoppoints.longest import longest_trail
 from stoppoints.places import places_of
 from stoppoints.placings import Placings, most_looks
 from stoppoints.programs import Program, rings
@@ -342,6 +343,9 @@ class LoopWalksTest(Case):
         self.assertEqual(span_of(plain), span_of(program))
         self.assertLessEqual(span_of(looked), span_of(program))
         self.assertGreaterEqual(most_looks(looked), most_looks(program))
+        for changed in (plain, looked):
+            trail = longest_trail(changed)
+            self.assertEqual(span_of(changed), Span(trail.greatest) if trail else Span.endless())
         return 1
 
     def test_endless_loops(self):

@@ -7,7 +7,7 @@ from stoppoints.codes import Call, Code, Either, Leave, Look, Loop, Return, Row,
 from stoppoints.errors import InvalidCode, InvalidName, InvalidTime, InvalidTurns
 from stoppoints.spans import Span
 
-from cases import STRANGE, STRANGER, TOP, Case, nested, of_size, some_codes
+from cases import STRANGE, STRANGER, TOP, Case, Same, nested, of_size, some_codes
 
 CLASSES = [Work, Look, Stand, Row, Either, Loop, Call, Leave, Return]
 NO_TIMES = STRANGE + [-1, TOP + 1, Span(1), Work(1)]
@@ -272,7 +272,7 @@ class InTest(Case):
 
     def test_any_value(self):
         for code in some_codes() + [Look("a")]:
-            for value in STRANGE + [0, 5, Look("a"), Span(0), ["a"], ("a",), b"a"]:
+            for value in STRANGE + [0, 5, Look("a"), Span(0), ["a"], ("a",), b"a", Same()]:
                 self.assertIs(value in code, False)
 
     def test_each_kind(self):

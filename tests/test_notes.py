@@ -272,7 +272,8 @@ class WrongLinesTest(Case):
         self.assertEqual(notes(read_notes([])), [])
 
     def test_what_is_no_deed(self):
-        for line in ["", " ", "no", "names", "first f", "f = 5", "putt a 2", "Put a 2", "UNDO", "undo\n", "\tundo", "#", "end"]:
+        for line in ["", " ", "no", "names", "first f", "f = 5", "putt a 2", "Put a 2", "UNDO", "undo\n", "\tundo", "#", "end",
+                     "limits a 9", "no a 9", "no a", "Limit a 9", "removed a", "rules none none none", "no none none none"]:
             self.wrong(0, line)
             self.wrong(3, *PUT_FIVE, line)
 

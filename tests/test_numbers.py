@@ -10,7 +10,7 @@ from stoppoints.programs import Program
 from stoppoints.spans import Span, greatest
 from stoppoints.texts import parse_code
 
-from cases import STRANGE, STRANGER, TOP, Case
+from cases import STRANGE, STRANGER, TOP, Case, Same
 from samples import (WAYS, TooMany, eight, expected, generator, numbers_from, random_code, random_numbers, walks_of)
 
 NO = (None, None, None)
@@ -48,7 +48,7 @@ class NumbersTest(Case):
 
     def test_ways(self):
         numbers = made()
-        for value in STRANGE + ["On", "on ", "here", 0, 1, ("on",), ["on"], Span(0)]:
+        for value in STRANGE + ["On", "on ", "here", 0, 1, ("on",), ["on"], Span(0), Same()]:
             self.refuses(UnknownName, {"name": value}, numbers.through, value)
             self.refuses(UnknownName, {"name": value}, numbers.tail, value)
 
